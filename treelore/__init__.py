@@ -1,0 +1,1 @@
+"""Treelore: trees kept, changed, asked, compared, drawn and sent."""
