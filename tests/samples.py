@@ -15,6 +15,14 @@ def line(levels, tag="a"):
     return tree
 
 
+def stair(levels, tag="a"):
+    """A tree of so many levels, each place beneath the second kid of the one above."""
+    tree = leaf(tag)
+    for _ in range(levels - 1):
+        tree = (tag, (leaf(tag), tree))
+    return tree
+
+
 def fan(size, tag="a"):
     """A tree of so many places, all but one of them its kids."""
     return (tag, (leaf("b"),) * (size - 1))

@@ -4,7 +4,7 @@ import unittest
 
 from tests.model import knobs_of, knob_of, tree_of, knob_at
 from tests.refusals import RefusalChecks
-from tests.samples import ODDITIES, SAMPLES, SMALL, fan, leaf, line, very_many
+from tests.samples import ODDITIES, SAMPLES, SMALL, fan, leaf, line, stair, very_many
 from treelore.trees import DEPTH, SIGNS, SIZE, depth_of, has_place, is_path, is_tag, is_tree
 from treelore.trees import part_of, places_of, size_of
 
@@ -28,6 +28,8 @@ class FormTest(unittest.TestCase):
         self.assertFalse(is_tree(fan(61)))
         self.assertTrue(is_tree(line(12)))
         self.assertFalse(is_tree(line(13)))
+        self.assertTrue(is_tree(stair(12)))
+        self.assertFalse(is_tree(stair(13)))
         deep = ("a", (line(11), fan(48)))
         self.assertTrue(is_tree(deep))
         self.assertFalse(is_tree(("a", (line(11), fan(49)))))

@@ -1,17 +1,15 @@
 """Places led through deeds, the way back, and lists of deeds."""
 
 from treelore.deeds import done
-from treelore.errors import NoDeed, NoPlace, Stopped, TreeError
+from treelore.errors import NoDeed, Stopped, TreeError
 from treelore.steps import behind_move, behind_out, behind_put, behind_swap, behind_unwrap, behind_wrap
-from treelore.trees import check_path, check_tree, part_at, paths_from
+from treelore.trees import check_place, check_tree, part_at, paths_from
 
 
 def led(tree, deed, path):
     """Where a place stands behind a deed, None if it is gone."""
     done(tree, deed)
-    check_path(path)
-    if part_at(tree, path) is None:
-        raise NoPlace(path)
+    check_place(tree, path)
     return place_behind(tree, deed, path)
 
 

@@ -79,11 +79,8 @@ def has_place(tree, path):
 def part_of(tree, path):
     """The tree that begins at a place."""
     check_tree(tree)
-    check_path(path)
-    part = part_at(tree, path)
-    if part is None:
-        raise NoPlace(path)
-    return part
+    check_place(tree, path)
+    return part_at(tree, path)
 
 
 def places_of(tree):
@@ -102,6 +99,13 @@ def check_path(thing):
     """Refuse what is no path."""
     if not is_path(thing):
         raise NoPath()
+
+
+def check_place(tree, thing):
+    """Refuse what is no path, or no place of the tree."""
+    check_path(thing)
+    if part_at(tree, thing) is None:
+        raise NoPlace(thing)
 
 
 def count_places(tree):
