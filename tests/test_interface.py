@@ -11,6 +11,21 @@ FUNCTIONS = {
     "leading": {"led": 3, "deed_back": 2, "all_done": 2},
     "sending": {"text_of": 1, "sent_numbers": 1, "tree_in": 1, "tree_of_numbers": 1, "span": 2, "span_of_numbers": 2},
     "flat": {"is_flat": 1, "flat_of": 1, "tree_of_flat": 1},
+    "tied": {"tied": 1, "is_even": 1, "items_of": 1, "item_at": 2, "put_at": 3, "out_at": 2, "parted": 2, "tied_both": 2,
+             "steps_of": 1, "fresh": 2},
+    "walks": {"in_order": 2, "right_walk": 4},
+    "patterns": {"is_test": 1, "is_pattern": 1, "own_patterns": 1, "all_patterns": 1, "marks_of": 1, "is_clear": 1,
+                 "places_by": 3},
+}
+
+# Those that are handed by their names alone, with what they are where they are left out.
+NAMED = {"walks.right_walk": {"late": True}, "walks.Walker.begin": {"late": True}}
+
+VALUES = {
+    "trees": {"SIZE": 60, "DEPTH": 12, "SIGNS": 8},
+    "tied": {"TIED": 1000},
+    "walks": {"ORDERS": ("ahead", "behind", "levels", "leaves"), "WALKS": 8},
+    "patterns": {"WAYS": ("kid", "beneath", "next", "later", "above", "over"), "PATTERNS": 8, "TESTS": 16, "MARKS": 2},
 }
 
 # How many arguments each method takes besides its own object.
@@ -22,11 +37,28 @@ METHODS = {
                            "acts": 0, "gone": 0, "by_paths": 1, "do_by": 1},
     "lasting.LastingTree": {"edition": 1, "editions": 0, "go_to": 1, "knots": 1, "shared": 2},
     "flat.FlatTree": {"flat": 0, "span": 1},
+    "tiedtree.TiedTree": {"tie": 1},
+    "keeping.Keeper": {"__init__": 1, "keep": 1, "where": 1, "let_go": 1, "tickets": 0, "takes": 0, "__len__": 0, "back": 0,
+                       "deeds_heard": 0, "can_back": 0, "watch": 1},
+    "walks.Walker": {"__init__": 1, "begin": 2, "onward": 1, "shown": 1, "left": 1, "story": 1, "leave": 1, "__len__": 0,
+                     "__str__": 0},
 }
+
+HEARERS = ("keeping.Keeper", "walks.Walker")
+BENEATH_MAKE = ("handles.HandleTree", "lasting.LastingTree", "flat.FlatTree", "tiedtree.TiedTree")
 
 
 def module(name):
     return importlib.import_module(f"treelore.{name}")
+
+
+def found(place):
+    """What stands at a place, as a file's name and the names behind it."""
+    file, *names = place.split(".")
+    thing = module(file)
+    for name in names:
+        thing = vars(thing)[name]
+    return thing
 
 
 class InterfaceTest(unittest.TestCase):
@@ -43,6 +75,23 @@ class InterfaceTest(unittest.TestCase):
             for name, many in names.items():
                 self.assertIn(name, body, place)
                 self.assertEqual(len(inspect.signature(body[name]).parameters), many + 1, (place, name))
+
+    def test_arguments_handed_by_their_names(self):
+        for place, told in NAMED.items():
+            given = inspect.signature(found(place)).parameters.values()
+            named = {one.name: one.default for one in given if one.kind == inspect.Parameter.KEYWORD_ONLY}
+            self.assertEqual(named, told, place)
+
+    def test_values(self):
+        for file, values in VALUES.items():
+            for name, value in values.items():
+                self.assertEqual(repr(getattr(module(file), name)), repr(value), name)
+
+    def test_what_stands_beneath_what(self):
+        for place in HEARERS:
+            self.assertTrue(issubclass(found(place), found("makes.Hearer")), place)
+        for place in BENEATH_MAKE:
+            self.assertTrue(issubclass(found(place), found("makes.Make")), place)
 
 
 if __name__ == "__main__":

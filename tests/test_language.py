@@ -167,8 +167,11 @@ class LanguageTest(unittest.TestCase):
             self.assertIn(name, methods | stored | METHODS | DUNDERS, where)
 
     def test_expressions(self):
-        for where, node in self.each((ast.Div, ast.NamedExpr, ast.Await, ast.Yield, ast.JoinedStr, ast.Set, ast.Pow)):
+        for where, node in self.each((ast.Div, ast.NamedExpr, ast.Await, ast.Yield, ast.Set, ast.Pow)):
             self.fail(where)
+        for where, node in self.each(ast.FormattedValue):
+            self.assertEqual((node.conversion, node.format_spec), (-1, None), where)
+            self.assertFalse(any(isinstance(inner, ast.JoinedStr) for inner in ast.walk(node.value)), where)
         for where, node in self.each(ast.Constant):
             self.assertNotIsInstance(node.value, (float, bytes, complex), where)
             if isinstance(node.value, str):
@@ -200,7 +203,17 @@ class LanguageTest(unittest.TestCase):
             if node.name == "__len__":
                 self.assertEqual(node.body[-1].value.func.id, "len", where)
             if node.name in ("__str__", "__repr__"):
-                self.assertEqual(node.body[-1].value.func.id, "str", where)
+                told = node.body[-1].value.func
+                if isinstance(told, ast.Attribute):
+                    self.assertEqual((told.attr, isinstance(told.value, ast.Constant)), ("join", True), where)
+                else:
+                    self.assertEqual(told.id, "str", where)
+
+    def test_what_stands_in_a_finally(self):
+        for where, node in self.each(ast.Try):
+            for row in node.finalbody:
+                self.assertIsInstance(row, ast.Assign, where)
+                self.assertIsInstance(row.value, (ast.Name, ast.Attribute, ast.Constant), where)
 
 
 if __name__ == "__main__":

@@ -3,18 +3,14 @@
 import unittest
 
 from tests.hearers import Notes
+from tests.kinds import MAKES
 from tests.model import every_deed, judged, knob_at, knob_of, size_and_depth, tree_of, why_not
 from tests.refusals import RefusalChecks, refusal_of, told_of
 from tests.samples import ODDITIES, SAMPLES, SMALL, deed_row, fan, leaf, line
 from treelore import errors
-from treelore.flat import FlatTree
-from treelore.handles import HandleTree
-from treelore.lasting import LastingTree
 from treelore.makes import Hearer, Make
 from treelore.sending import text_of
 from treelore.trees import places_of
-
-MAKES = (Make, HandleTree, LastingTree, FlatTree)
 
 
 class Shout(Exception):

@@ -1,0 +1,189 @@
+"""Orders of a tree's places, and walks that go on while the tree is changed."""
+
+from treelore.deeds import changed, done
+from treelore.errors import NoOrder, NoWalk, TooMany, TreeError
+from treelore.leading import place_behind
+from treelore.makes import Hearer
+from treelore.trees import check_tree, is_count, is_path, part_at, paths_from
+
+ORDERS = ("ahead", "behind", "levels", "leaves")
+WALKS = 8
+
+
+def in_order(tree, how):
+    """A tree's paths in an order."""
+    check_tree(tree)
+    check_order(how)
+    return paths_in(tree, how)
+
+
+def check_order(thing):
+    """Refuse what is no order."""
+    if thing not in ORDERS:
+        raise NoOrder(thing)
+
+
+def paths_in(tree, how):
+    """The paths of a tree in one of ORDERS."""
+    if how == "behind":
+        return paths_behind(tree, ())
+    paths = paths_from(tree, ())
+    if how == "levels":
+        # They stand by their paths already, and sorting leaves those of one length as they stand.
+        return sorted(paths, key=len)
+    if how == "leaves":
+        return [path for path in paths if len(part_at(tree, path)[1]) == 0]
+    return paths
+
+
+def paths_behind(tree, path):
+    """The paths of a part that stands at path, each behind those of its kids."""
+    paths = []
+    for at, kid in enumerate(tree[1]):
+        paths.extend(paths_behind(kid, path + (at,)))
+    paths.append(path)
+    return paths
+
+
+class Walk:
+    """One walk: seen has where each place that it has shown is now, None where it is gone, tale its story so far."""
+
+    def __init__(self, how, late):
+        self.how = how
+        self.late = late
+        self.seen = []
+        self.tale = []
+
+
+def still_to_show(walk, tree):
+    """The places that a walk would show one after another if the tree stayed as it is."""
+    paths = paths_in(tree, walk.how)
+    if not walk.late:
+        paths = paths[behind_last_seen(paths, walk.seen):]
+    return [path for path in paths if path not in walk.seen]
+
+
+def behind_last_seen(paths, seen):
+    """The number behind that of the place shown last of those that stand among the paths, 0 where none does."""
+    for path in reversed(seen):
+        if path in paths:
+            return paths.index(path) + 1
+    return 0
+
+
+def show_next(walk, tree):
+    """Let a walk show its next place; that path, or None."""
+    paths = still_to_show(walk, tree)
+    shown_now = paths[0] if len(paths) > 0 else None
+    if shown_now is not None:
+        walk.seen.append(shown_now)
+    walk.tale.append(("show", shown_now))
+    return shown_now
+
+
+def lead_walk(walk, before, deed):
+    """Lead what a walk has shown through a deed."""
+    walk.seen = [None if path is None else place_behind(before, deed, path) for path in walk.seen]
+    walk.tale.append(("do", deed))
+
+
+def right_walk(tree, how, story, *, late=True):
+    """Whether a thing is a right story of a walk that began at a tree."""
+    check_tree(tree)
+    check_order(how)
+    if not isinstance(story, tuple):
+        return False
+    walk = Walk(how, late)
+    now = tree
+    for step in story:
+        if not isinstance(step, tuple) or len(step) != 2:
+            return False
+        if step[0] == "do" and is_fitting(now, step[1]):
+            lead_walk(walk, now, step[1])
+            now = changed(now, step[1])
+        elif step[0] != "show" or not is_same_path(step[1], show_next(walk, now)):
+            return False
+    return True
+
+
+def is_fitting(tree, thing):
+    """Whether a thing is a deed that fits the tree."""
+    try:
+        done(tree, thing)
+    except TreeError:
+        return False
+    return True
+
+
+def is_same_path(thing, path):
+    """Whether a thing is that very path, or None where that is None."""
+    if path is None:
+        return thing is None
+    return is_path(thing) and thing == path
+
+
+class Walker(Hearer):
+    """Walks over a make, by their numbers."""
+
+    def __init__(self, make):
+        self.base = make
+        self.walks = {}
+        self.issued = 0
+        make.hear(self)
+
+    def heard(self, before, deed):
+        """Lead what the walks have shown through a deed."""
+        for number in list(self.walks):
+            lead_walk(self.walks[number], before, deed)
+
+    def settle(self):
+        """Nothing is left to do: all walks were led as the deeds came."""
+
+    def begin(self, how, *, late=True):
+        """The number of a new walk."""
+        check_order(how)
+        if len(self.walks) == WALKS:
+            raise TooMany(WALKS + 1)
+        number = self.issued
+        self.issued += 1
+        self.walks[number] = Walk(how, late)
+        return number
+
+    def walk_of(self, number):
+        """The walk that stands by a number."""
+        if not is_count(number) or number not in self.walks:
+            raise NoWalk(number)
+        return self.walks[number]
+
+    def onward(self, number):
+        """The place that a walk shows next, None where nothing is left."""
+        return show_next(self.walk_of(number), self.base.value())
+
+    def shown(self, number):
+        """Where each place that a walk has shown is now, None where it is gone, in the order they were shown."""
+        return tuple(self.walk_of(number).seen)
+
+    def left(self, number):
+        """How many places a walk would still show."""
+        return len(still_to_show(self.walk_of(number), self.base.value()))
+
+    def story(self, number):
+        """The story of a walk."""
+        return tuple(self.walk_of(number).tale)
+
+    def leave(self, number):
+        """End a walk."""
+        self.walk_of(number)
+        del self.walks[number]
+
+    def __len__(self):
+        return len(self.walks)
+
+    def __str__(self):
+        return "\n".join([self.line_of(number) for number in self.walks])
+
+    def line_of(self, number):
+        """A walk's order, how many places it has shown, and how many with those that are left."""
+        walk = self.walks[number]
+        many = len(walk.seen)
+        return f"{walk.how} {many} of {many + self.left(number)}"
