@@ -16,16 +16,22 @@ FUNCTIONS = {
     "walks": {"in_order": 2, "right_walk": 4},
     "patterns": {"is_test": 1, "is_pattern": 1, "own_patterns": 1, "all_patterns": 1, "marks_of": 1, "is_clear": 1,
                  "places_by": 3},
+    "answers": {"test_holds": 3, "fits_table": 2, "right_fits": 3, "fits": 3, "is_reading": 3, "count_table": 2,
+                "right_counts_of": 3, "readings": 2, "answers": 3, "answer_behind": 3, "reading_of": 3},
+    "counts": {"count_paper": 1, "right_counts": 2},
+    "costs": {"is_costs": 1, "walk_behind": 1, "lows_of": 1, "right_table": 4, "table_of": 3, "cost_between": 3},
 }
 
 # Those that are handed by their names alone, with what they are where they are left out.
-NAMED = {"walks.right_walk": {"late": True}, "walks.Walker.begin": {"late": True}}
+NAMED = {"walks.right_walk": {"late": True}, "walks.Walker.begin": {"late": True}, "answers.answers": {"within": ()}}
 
 VALUES = {
     "trees": {"SIZE": 60, "DEPTH": 12, "SIGNS": 8},
     "tied": {"TIED": 1000},
     "walks": {"ORDERS": ("ahead", "behind", "levels", "leaves"), "WALKS": 8},
     "patterns": {"WAYS": ("kid", "beneath", "next", "later", "above", "over"), "PATTERNS": 8, "TESTS": 16, "MARKS": 2},
+    "standing": {"QUESTIONS": 8, "STORY": 20},
+    "costs": {"COST": 100, "NEAR": 12},
 }
 
 # How many arguments each method takes besides its own object.
@@ -42,9 +48,13 @@ METHODS = {
                        "deeds_heard": 0, "can_back": 0, "watch": 1},
     "walks.Walker": {"__init__": 1, "begin": 2, "onward": 1, "shown": 1, "left": 1, "story": 1, "leave": 1, "__len__": 0,
                      "__str__": 0},
+    "standing.Standing": {"__init__": 1, "ask": 1, "drop": 1, "answers_of": 1, "pattern_of": 1, "questions": 0, "__len__": 0,
+                          "do": 1, "do_all": 1, "story": 0, "make": 0, "__str__": 0},
+    "counts.Counts": {"__init__": 1, "size_at": 1, "height_at": 1, "number_of": 1, "kth": 1, "common": 1, "tags": 0,
+                      "of_tag": 1, "levels": 0, "leaves": 0, "paper": 0},
 }
 
-HEARERS = ("keeping.Keeper", "walks.Walker")
+HEARERS = ("keeping.Keeper", "walks.Walker", "standing.Standing", "counts.Counts")
 BENEATH_MAKE = ("handles.HandleTree", "lasting.LastingTree", "flat.FlatTree", "tiedtree.TiedTree")
 
 
