@@ -239,6 +239,8 @@ class RightTableTest(unittest.TestCase):
                     self.check(one, other, costs, ahead + (bent,) + behind, False)
                 self.check(one, other, costs, ahead + (row, row) + behind, False)
                 self.check(one, other, costs, ahead + (row, row[:4] + (row[4] + 1,)) + behind, False)
+                self.check(one, other, costs, ahead + (row[:4] + (row[4] - 1,), row) + behind, False)
+                self.check(one, other, costs, ahead + (row[:4] + (0,), row) + behind, False)
                 if at:
                     self.check(one, other, costs, table[:at - 1] + (row, table[at - 1]) + behind, False)
 
