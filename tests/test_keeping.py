@@ -147,6 +147,15 @@ class TicketsTest(RefusalChecks, unittest.TestCase):
         self.refused(("NoPlace", (2,)), keeper.keep, (2,))
         self.assertEqual(keeper.keep((1,)), 1)
 
+    def test_kept_by_one_that_hears_ahead_of_it(self):
+        make, told = Make(SMALL), []
+        make.hear(Notes([], on_heard=lambda: told.append((keeper.keep((2, 2)), refusal_of(keeper.keep, (3,))))))
+        keeper = Keeper(make)
+        make.do(("put", (), 0, leaf("x")))
+        # The keeper had not heard of the deed by then: so the ticket is led through it.
+        self.assertEqual(keeper.tickets(), ((0, (3, 2)),))
+        self.assertEqual(told[0][1].path, (3,))
+
     def test_what_is_told_is_new_each_time(self):
         make = Make(SMALL)
         keeper = Keeper(make)

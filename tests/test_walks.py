@@ -395,6 +395,25 @@ class WalkerTest(RefusalChecks, unittest.TestCase):
         make.do(("name", (), "z"))
         self.assertEqual(seen, [((), ("Busy",)), ((0,), ("Busy",)), (None, ("Busy",))])
 
+    def test_asked_by_one_that_hears_ahead_of_it(self):
+        for kind in MAKES:
+            for seed, tree in enumerate(SAMPLES[1:]):
+                make = kind(tree)
+                numbers = range(8)
+                make.hear(Notes([], on_heard=lambda: [walker.onward(number) for number in numbers]))
+                walker = Walker(make)
+                walks = [(how, late) for how in ORDERS for late in (True, False)]
+                for how, late in walks:
+                    walker.begin(how, late=late)
+                deeds = deed_row(tree, 8, seed + 210)
+                make.do_all(deeds[:4])
+                for deed in deeds[4:]:
+                    make.do(deed)
+                for number, (how, late) in enumerate(walks):
+                    self.assertTrue(is_right(tree, how, walker.story(number), late))
+                    there = [path for path in walker.shown(number) if path is not None]
+                    self.assertEqual(len(there), len(set(there)))
+
     def test_what_is_told_stays(self):
         make = Make(SMALL)
         walker = Walker(make)

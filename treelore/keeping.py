@@ -1,5 +1,6 @@
 """Places kept through deeds by tickets, the way back, and watchers."""
 
+from treelore.deeds import changed
 from treelore.errors import NoTicket, NothingBack, Taken
 from treelore.leading import deed_back, place_behind
 from treelore.makes import Hearer
@@ -11,11 +12,13 @@ class Keeper(Hearer):
 
     ends has the deed that took each such ticket; standing, of each deed that
     stands, the deed back and where those stood that it took; due the calls
-    of the watcher that are still to be made.
+    of the watcher that are still to be made; tree is the one behind the last
+    deed that was heard.
     """
 
     def __init__(self, make):
         self.base = make
+        self.tree = make.value()
         self.spots = {}
         self.ends = {}
         self.issued = 0
@@ -28,7 +31,8 @@ class Keeper(Hearer):
 
     def keep(self, path):
         """A ticket for a place."""
-        check_place(self.base.value(), path)
+        # Whoever hears ahead of this keeper may ask for one while a deed is done that it will lead tickets through yet.
+        check_place(self.tree if self.base.busy else self.base.value(), path)
         ticket = self.issued
         self.issued += 1
         self.spots[ticket] = path
@@ -67,6 +71,7 @@ class Keeper(Hearer):
     def heard(self, before, deed):
         """Lead the tickets through a deed; an own back lets those stand again that the undone deed took."""
         taken = self.lead(before, deed)
+        self.tree = changed(before, deed)
         if self.undoing:
             self.undoing = False
             self.stand_again(self.standing.pop()[1])

@@ -123,21 +123,28 @@ def is_same_path(thing, path):
 
 
 class Walker(Hearer):
-    """Walks over a make, by their numbers."""
+    """Walks over a make, by their numbers; tree is the one behind the last deed that was heard."""
 
     def __init__(self, make):
         self.base = make
+        self.tree = make.value()
         self.walks = {}
         self.issued = 0
         make.hear(self)
 
     def heard(self, before, deed):
         """Lead what the walks have shown through a deed."""
+        self.tree = changed(before, deed)
         for number in list(self.walks):
             lead_walk(self.walks[number], before, deed)
 
     def settle(self):
         """Nothing is left to do: all walks were led as the deeds came."""
+
+    def tree_now(self):
+        """The tree over which the walks go."""
+        # Whoever hears ahead of this walker may ask it while a deed is done that its walks weren't led through yet.
+        return self.tree if self.base.busy else self.base.value()
 
     def begin(self, how, *, late=True):
         """The number of a new walk."""
@@ -157,7 +164,7 @@ class Walker(Hearer):
 
     def onward(self, number):
         """The place that a walk shows next, None where nothing is left."""
-        return show_next(self.walk_of(number), self.base.value())
+        return show_next(self.walk_of(number), self.tree_now())
 
     def shown(self, number):
         """Where each place that a walk has shown is now, None where it is gone, in the order they were shown."""
@@ -165,7 +172,7 @@ class Walker(Hearer):
 
     def left(self, number):
         """How many places a walk would still show."""
-        return len(still_to_show(self.walk_of(number), self.base.value()))
+        return len(still_to_show(self.walk_of(number), self.tree_now()))
 
     def story(self, number):
         """The story of a walk."""
