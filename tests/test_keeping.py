@@ -148,13 +148,99 @@ class TicketsTest(RefusalChecks, unittest.TestCase):
         self.assertEqual(keeper.keep((1,)), 1)
 
     def test_kept_by_one_that_hears_ahead_of_it(self):
-        make, told = Make(SMALL), []
-        make.hear(Notes([], on_heard=lambda: told.append((keeper.keep((2, 2)), refusal_of(keeper.keep, (3,))))))
+        for kind in MAKES:
+            make, told = kind(SMALL), []
+            make.hear(Notes([], on_heard=lambda: told.append((keeper.keep((3, 2)), refusal_of(keeper.keep, (2, 2)).path))))
+            keeper = Keeper(make)
+            make.do(("put", (), 0, leaf("x")))
+            # (3, 2) is a place of the tree behind the deed: so the deed doesn't lead it any more.
+            self.assertEqual((told, keeper.tickets(), keeper.deeds_heard()), ([(0, (2, 2))], ((0, (3, 2)),), 1))
+
+    def test_asked_by_one_that_hears_ahead_of_it(self):
+        for kind in MAKES:
+            for seed, tree in enumerate(SAMPLES):
+                make, asked, plain = kind(tree), [], []
+                make.hear(Notes([], on_heard=lambda: asked.append(state_of(keeper))))
+                keeper = Keeper(make)
+                make.hear(Notes([], on_heard=lambda: plain.append(state_of(keeper))))
+                keep_all(keeper, tree)
+                deeds = deed_row(tree, 6, seed + 40)
+                make.do_all(deeds[:3])
+                for deed in deeds[3:]:
+                    make.do(deed)
+                keeper.back()
+                self.assertEqual(asked, plain)
+                self.assertEqual((keeper.deeds_heard(), keeper.can_back()), (7, 5))
+
+    def test_each_question_by_itself_ahead_of_its_hearing(self):
+        asks = (lambda keeper: told_of(refusal_of(keeper.where, 1)), lambda keeper: keeper.takes(),
+                lambda keeper: keeper.tickets()[1:3], lambda keeper: keeper.deeds_heard(), lambda keeper: keeper.can_back())
+        told = []
+        for ask in asks:
+            make = Make(SMALL)
+            make.hear(Notes([], on_heard=lambda: told.append(ask(keeper))))
+            keeper = Keeper(make)
+            keep_all(keeper, SMALL)
+            make.do(("unwrap", (0,)))
+        self.assertEqual(told, [("Taken", 1, 0), ((1, 0),), ((1, None), (2, (0,))), 1, 1])
+
+    def test_let_go_by_one_that_hears_ahead_of_it(self):
+        make = Make(SMALL)
+        notes = Notes([], on_heard=lambda: keeper.let_go(0))
+        make.hear(notes)
         keeper = Keeper(make)
-        make.do(("put", (), 0, leaf("x")))
-        # The keeper had not heard of the deed by then: so the ticket is led through it.
-        self.assertEqual(keeper.tickets(), ((0, (3, 2)),))
-        self.assertEqual(told[0][1].path, (3,))
+        keeper.keep((0,))
+        keeper.keep((0,))
+        make.do(("out", (0,)))
+        notes.on_heard = None
+        self.assertEqual((keeper.tickets(), keeper.takes()), (((1, None),), ((1, 0),)))
+        keeper.back()
+        self.assertEqual(keeper.tickets(), ((1, (0,)),))
+
+    def made_meanwhile(self, kind, tree, deeds, use):
+        """A make behind a do_all, and a keeper that was made at its first deed; use is called with that at its second."""
+        make, keepers = kind(tree), []
+
+        def hear():
+            if keepers:
+                use(make, keepers[0])
+            else:
+                keepers.append(Keeper(make))
+
+        make.hear(Notes([], on_heard=hear))
+        make.do_all(deeds)
+        return make, keepers[0]
+
+    def test_made_while_a_do_all_goes_on(self):
+        for kind in MAKES:
+            told = []
+
+            def use(make, keeper):
+                for path in ((0,), (1,)):
+                    told.append((make.has(path), told_of(refusal_of(keeper.keep, path))))
+
+            deeds = [("name", (), "x"), ("put", (), 0, leaf("y"))]
+            make, keeper = self.made_meanwhile(kind, leaf(), deeds, use)
+            self.assertEqual(told, [(True, None), (False, ("NoPlace", (1,)))])
+            self.assertEqual((keeper.tickets(), keeper.deeds_heard(), keeper.can_back()), (((0, (0,)),), 0, 0))
+            make.do(("put", (), 0, leaf("z")))
+            self.assertEqual((keeper.where(0), keeper.deeds_heard()), ((1,), 1))
+            keeper.back()
+            self.assertEqual((keeper.where(0), make.value()), ((0,), ("x", (leaf("y"),))))
+
+            del told[:]
+            deeds = [("name", (), "x"), ("out", (1,))]
+            make, keeper = self.made_meanwhile(kind, ("a", (leaf("b"), leaf("c"))), deeds, use)
+            self.assertEqual(told, [(True, None), (False, ("NoPlace", (1,)))])
+
+    def test_made_while_the_make_settles(self):
+        make, keepers = Make(SMALL), []
+        make.hear(Notes([], on_settle=lambda: keepers.append(Keeper(make))))
+        make.do(("out", (0,)))
+        keepers[0].keep((1, 0))
+        make.do(("out", (0,)))
+        self.assertEqual((keepers[0].where(0), keepers[0].deeds_heard()), ((0, 0), 1))
+        self.assertEqual((keepers[1].tickets(), keepers[1].deeds_heard()), ((), 0))
 
     def test_what_is_told_is_new_each_time(self):
         make = Make(SMALL)

@@ -399,8 +399,18 @@ class WalkerTest(RefusalChecks, unittest.TestCase):
         for kind in MAKES:
             for seed, tree in enumerate(SAMPLES[1:]):
                 make = kind(tree)
-                numbers = range(8)
-                make.hear(Notes([], on_heard=lambda: [walker.onward(number) for number in numbers]))
+                told = []
+
+                def walk_on():
+                    written, lefts = str(walker), [walker.left(number) for number in range(8)]
+                    many = [len(walker.shown(number)) for number in range(8)]
+                    rows = [f"{how} {have} of {have + left}" for (how, late), have, left in zip(walks, many, lefts)]
+                    self.assertEqual(written, "\n".join(rows))
+                    for number in range(8):
+                        path = walker.onward(number)
+                        told.append(path is None or make.has(path))
+
+                make.hear(Notes([], on_heard=walk_on))
                 walker = Walker(make)
                 walks = [(how, late) for how in ORDERS for late in (True, False)]
                 for how, late in walks:
@@ -409,10 +419,62 @@ class WalkerTest(RefusalChecks, unittest.TestCase):
                 make.do_all(deeds[:4])
                 for deed in deeds[4:]:
                     make.do(deed)
+                self.assertEqual(told, [True] * 64)
                 for number, (how, late) in enumerate(walks):
-                    self.assertTrue(is_right(tree, how, walker.story(number), late))
+                    story = walker.story(number)
+                    self.assertTrue(is_right(tree, how, story, late))
+                    # Each deed was done by the time at which the one that hears ahead asked.
+                    self.assertEqual([step[0] for step in story], ["do", "show"] * 8)
                     there = [path for path in walker.shown(number) if path is not None]
                     self.assertEqual(len(there), len(set(there)))
+
+    def test_begun_by_one_that_hears_ahead_of_it(self):
+        make = Make(SMALL)
+        make.hear(Notes([], on_heard=lambda: walker.begin("ahead")))
+        walker = Walker(make)
+        make.do(("out", (0,)))
+        make.do(("out", (0,)))
+        self.assertEqual([walker.story(number) for number in range(2)], [(("do", ("out", (0,))),), ()])
+
+    def test_asked_ahead_of_its_hearing_by_each_question(self):
+        asks = (lambda walker: walker.shown(0), lambda walker: walker.left(0), lambda walker: walker.story(0)[2:],
+                lambda walker: walker.onward(0), str, len)
+        told = []
+        for ask in asks:
+            make = Make(SMALL)
+            make.hear(Notes([], on_heard=lambda: told.append(ask(walker))))
+            walker = Walker(make)
+            walker.begin("ahead")
+            walker.onward(0)
+            walker.onward(0)
+            make.do(("out", (0,)))
+        self.assertEqual(told, [((), None), 5, (("do", ("out", (0,))),), (0,), "ahead 2 of 7", 1])
+
+    def test_made_while_a_do_all_goes_on(self):
+        made = [(leaf(), ("put", (), 0, ("y", (leaf("z"),))), [3, (), (0,), (0, 0), None]),
+                (("a", (leaf("b"), leaf("c"))), ("out", (1,)), [2, (), (0,), None, None])]
+        for kind in MAKES:
+            for tree, deed, wanted in made:
+                make, walkers, told = kind(tree), [], []
+
+                def hear():
+                    if not walkers:
+                        walkers.append(Walker(make))
+                        return
+                    number = walkers[0].begin("ahead")
+                    told.append(walkers[0].left(number))
+                    self.assertEqual(str(walkers[0]), f"ahead 0 of {wanted[0]}")
+                    told.extend(walkers[0].onward(number) for _ in range(4))
+
+                notes = Notes([], on_heard=hear)
+                make.hear(notes)
+                make.do_all([("name", (), "x"), deed])
+                self.assertEqual(told, wanted)
+                self.assertEqual(walkers[0].story(0), tuple(("show", path) for path in wanted[1:]))
+                notes.on_heard = None
+                make.do(("put", (), 0, leaf("n")))
+                self.assertEqual(walkers[0].shown(0)[:2], ((), (1,)))
+                self.assertEqual((walkers[0].onward(0), walkers[0].onward(0)), ((0,), None))
 
     def test_what_is_told_stays(self):
         make = Make(SMALL)

@@ -1,24 +1,20 @@
 """Places kept through deeds by tickets, the way back, and watchers."""
 
-from treelore.deeds import changed
+from treelore.abreast import Follower
 from treelore.errors import NoTicket, NothingBack, Taken
 from treelore.leading import deed_back, place_behind
-from treelore.makes import Hearer
 from treelore.trees import check_place, is_count
 
 
-class Keeper(Hearer):
+class Keeper(Follower):
     """Keeps places of a make: spots has where each ticket that is held stands, None where a deed has taken it.
 
     ends has the deed that took each such ticket; standing, of each deed that
     stands, the deed back and where those stood that it took; due the calls
-    of the watcher that are still to be made; tree is the one behind the last
-    deed that was heard.
+    of the watcher that are still to be made.
     """
 
     def __init__(self, make):
-        self.base = make
-        self.tree = make.value()
         self.spots = {}
         self.ends = {}
         self.issued = 0
@@ -27,12 +23,12 @@ class Keeper(Hearer):
         self.undoing = False
         self.due = []
         self.watcher = None
-        make.hear(self)
+        self.follow(make)
 
     def keep(self, path):
         """A ticket for a place."""
-        # Whoever hears ahead of this keeper may ask for one while a deed is done that it will lead tickets through yet.
-        check_place(self.tree if self.base.busy else self.base.value(), path)
+        self.catch_up()
+        check_place(self.base.value(), path)
         ticket = self.issued
         self.issued += 1
         self.spots[ticket] = path
@@ -40,6 +36,7 @@ class Keeper(Hearer):
 
     def check_ticket(self, thing):
         """Refuse what is no ticket that is held."""
+        self.catch_up()
         if not is_count(thing) or thing not in self.spots:
             raise NoTicket(thing)
 
@@ -59,19 +56,20 @@ class Keeper(Hearer):
 
     def tickets(self):
         """Each ticket that is held, with its path, None where it is taken, rising."""
+        self.catch_up()
         return tuple([(ticket, self.spots[ticket]) for ticket in sorted(list(self.spots))])
 
     def takes(self):
         """Each ticket that is taken, with the deed that took it, rising."""
+        self.catch_up()
         return tuple([(ticket, self.ends[ticket]) for ticket in sorted(list(self.ends))])
 
     def __len__(self):
         return len(self.spots)
 
-    def heard(self, before, deed):
+    def take_in(self, before, deed):
         """Lead the tickets through a deed; an own back lets those stand again that the undone deed took."""
         taken = self.lead(before, deed)
-        self.tree = changed(before, deed)
         if self.undoing:
             self.undoing = False
             self.stand_again(self.standing.pop()[1])
@@ -114,10 +112,12 @@ class Keeper(Hearer):
 
     def deeds_heard(self):
         """How many deeds it has heard of."""
+        self.catch_up()
         return self.turns
 
     def can_back(self):
         """How many deeds stand."""
+        self.catch_up()
         return len(self.standing)
 
     def watch(self, tell):

@@ -22,13 +22,18 @@ class Make:
 
     A make beneath this one keeps its tree in a way of its own: it puts
     plant, value and act otherwise, and leaves all that refuses, tells and
-    asks hearers as it stands here.
+    asks hearers as it stands here. rounds is how many do and do_all began,
+    acted how many deeds were done, last the tree ahead of the last of these,
+    and that deed.
     """
 
     def __init__(self, tree):
         check_tree(tree)
         self.hearers = []
         self.busy = False
+        self.rounds = 0
+        self.acted = 0
+        self.last = None
         self.plant(tree)
 
     def plant(self, tree):
@@ -68,11 +73,14 @@ class Make:
     def act_and_tell(self, deeds):
         """Do deeds that fit, and tell those that hear by now of each."""
         hearers = list(self.hearers)
+        self.rounds += 1
         self.busy = True
         try:
             for deed in deeds:
                 before = self.value()
                 self.act(deed)
+                self.acted += 1
+                self.last = (before, deed)
                 for hearer in hearers:
                     hearer.heard(before, deed)
             for hearer in hearers:

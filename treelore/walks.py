@@ -1,9 +1,9 @@
 """Orders of a tree's places, and walks that go on while the tree is changed."""
 
+from treelore.abreast import Follower
 from treelore.deeds import changed, done
 from treelore.errors import NoOrder, NoWalk, TooMany, TreeError
 from treelore.leading import place_behind
-from treelore.makes import Hearer
 from treelore.trees import check_tree, is_count, is_path, part_at, paths_from
 
 ORDERS = ("ahead", "behind", "levels", "leaves")
@@ -55,12 +55,12 @@ class Walk:
         self.tale = []
 
 
-def still_to_show(walk, tree):
-    """The places that a walk would show one after another if the tree stayed as it is."""
+def still_to_show(walk, seen, tree):
+    """The places that a walk which has shown those seen would show one after another if the tree stayed as it is."""
     paths = paths_in(tree, walk.how)
     if not walk.late:
-        paths = paths[behind_last_seen(paths, walk.seen):]
-    return [path for path in paths if path not in walk.seen]
+        paths = paths[behind_last_seen(paths, seen):]
+    return [path for path in paths if path not in seen]
 
 
 def behind_last_seen(paths, seen):
@@ -73,7 +73,7 @@ def behind_last_seen(paths, seen):
 
 def show_next(walk, tree):
     """Let a walk show its next place; that path, or None."""
-    paths = still_to_show(walk, tree)
+    paths = still_to_show(walk, walk.seen, tree)
     shown_now = paths[0] if len(paths) > 0 else None
     if shown_now is not None:
         walk.seen.append(shown_now)
@@ -81,9 +81,14 @@ def show_next(walk, tree):
     return shown_now
 
 
+def seen_behind(seen, before, deed):
+    """Where the places that were shown are behind a deed."""
+    return [None if path is None else place_behind(before, deed, path) for path in seen]
+
+
 def lead_walk(walk, before, deed):
     """Lead what a walk has shown through a deed."""
-    walk.seen = [None if path is None else place_behind(before, deed, path) for path in walk.seen]
+    walk.seen = seen_behind(walk.seen, before, deed)
     walk.tale.append(("do", deed))
 
 
@@ -122,35 +127,28 @@ def is_same_path(thing, path):
     return is_path(thing) and thing == path
 
 
-class Walker(Hearer):
-    """Walks over a make, by their numbers; tree is the one behind the last deed that was heard."""
+class Walker(Follower):
+    """Walks over a make, by their numbers."""
 
     def __init__(self, make):
-        self.base = make
-        self.tree = make.value()
         self.walks = {}
         self.issued = 0
-        make.hear(self)
+        self.follow(make)
 
-    def heard(self, before, deed):
+    def take_in(self, before, deed):
         """Lead what the walks have shown through a deed."""
-        self.tree = changed(before, deed)
         for number in list(self.walks):
             lead_walk(self.walks[number], before, deed)
 
     def settle(self):
         """Nothing is left to do: all walks were led as the deeds came."""
 
-    def tree_now(self):
-        """The tree over which the walks go."""
-        # Whoever hears ahead of this walker may ask it while a deed is done that its walks weren't led through yet.
-        return self.tree if self.base.busy else self.base.value()
-
     def begin(self, how, *, late=True):
         """The number of a new walk."""
         check_order(how)
         if len(self.walks) == WALKS:
             raise TooMany(WALKS + 1)
+        self.catch_up()
         number = self.issued
         self.issued += 1
         self.walks[number] = Walk(how, late)
@@ -160,11 +158,12 @@ class Walker(Hearer):
         """The walk that stands by a number."""
         if not is_count(number) or number not in self.walks:
             raise NoWalk(number)
+        self.catch_up()
         return self.walks[number]
 
     def onward(self, number):
         """The place that a walk shows next, None where nothing is left."""
-        return show_next(self.walk_of(number), self.tree_now())
+        return show_next(self.walk_of(number), self.base.value())
 
     def shown(self, number):
         """Where each place that a walk has shown is now, None where it is gone, in the order they were shown."""
@@ -172,7 +171,8 @@ class Walker(Hearer):
 
     def left(self, number):
         """How many places a walk would still show."""
-        return len(still_to_show(self.walk_of(number), self.tree_now()))
+        walk = self.walk_of(number)
+        return len(still_to_show(walk, walk.seen, self.base.value()))
 
     def story(self, number):
         """The story of a walk."""
@@ -192,5 +192,9 @@ class Walker(Hearer):
     def line_of(self, number):
         """A walk's order, how many places it has shown, and how many with those that are left."""
         walk = self.walks[number]
-        many = len(walk.seen)
-        return f"{walk.how} {many} of {many + self.left(number)}"
+        seen = walk.seen
+        if self.is_behind():
+            # Who is only written out takes nothing in.
+            before, deed = self.base.last
+            seen = seen_behind(seen, before, deed)
+        return f"{walk.how} {len(seen)} of {len(seen) + len(still_to_show(walk, seen, self.base.value()))}"
