@@ -20,10 +20,16 @@ FUNCTIONS = {
                 "right_counts_of": 3, "readings": 2, "answers": 3, "answer_behind": 3, "reading_of": 3},
     "counts": {"count_paper": 1, "right_counts": 2},
     "costs": {"is_costs": 1, "walk_behind": 1, "lows_of": 1, "right_table": 4, "table_of": 3, "cost_between": 3},
+    "matching": {"is_matching": 3, "is_top": 3, "cost_of": 4, "least_matching": 3, "top_matching": 2},
+    "differ": {"deeds_of": 3, "difference": 3, "cost_of_deeds": 2},
+    "sides": {"is_side": 2, "check_side": 2, "led_by_side": 2, "place_led": 3, "side_of": 3},
+    "joining": {"clash": 3, "joined_sides": 3, "carried": 3, "three_ways": 3},
+    "drawing": {"columns_of": 1, "drawn": 1, "width_of": 1, "is_drawing": 2, "read_drawing": 1, "sign_at": 3},
 }
 
 # Those that are handed by their names alone, with what they are where they are left out.
-NAMED = {"walks.right_walk": {"late": True}, "walks.Walker.begin": {"late": True}, "answers.answers": {"within": ()}}
+NAMED = {"walks.right_walk": {"late": True}, "walks.Walker.begin": {"late": True}, "answers.answers": {"within": ()},
+         "differ.difference": {"costs": (1, 1, 1)}}
 
 VALUES = {
     "trees": {"SIZE": 60, "DEPTH": 12, "SIGNS": 8},
@@ -32,6 +38,8 @@ VALUES = {
     "patterns": {"WAYS": ("kid", "beneath", "next", "later", "above", "over"), "PATTERNS": 8, "TESTS": 16, "MARKS": 2},
     "standing": {"QUESTIONS": 8, "STORY": 20},
     "costs": {"COST": 100, "NEAR": 12},
+    "differ": {"EVEN": (1, 1, 1)},
+    "drawing": {"WIDE": 600},
 }
 
 # How many arguments each method takes besides its own object.
