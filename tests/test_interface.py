@@ -25,11 +25,15 @@ FUNCTIONS = {
     "sides": {"is_side": 2, "check_side": 2, "led_by_side": 2, "place_led": 3, "side_of": 3},
     "joining": {"clash": 3, "joined_sides": 3, "carried": 3, "three_ways": 3},
     "drawing": {"columns_of": 1, "drawn": 1, "width_of": 1, "is_drawing": 2, "read_drawing": 1, "sign_at": 3},
+    "papers": {"right_columns": 2, "columns_paper": 1},
+    "grove": {"make_of": 2},
+    "regrown": {"read_grove": 1, "grown": 1},
+    "words": {"path_text": 1, "deed_text": 1, "path_of_text": 1, "deed_of_text": 1},
 }
 
 # Those that are handed by their names alone, with what they are where they are left out.
 NAMED = {"walks.right_walk": {"late": True}, "walks.Walker.begin": {"late": True}, "answers.answers": {"within": ()},
-         "differ.difference": {"costs": (1, 1, 1)}}
+         "differ.difference": {"costs": (1, 1, 1)}, "grove.Grove.visit": {"late": True}, "desk.Desk.run": {"tell": None}}
 
 VALUES = {
     "trees": {"SIZE": 60, "DEPTH": 12, "SIGNS": 8},
@@ -40,6 +44,7 @@ VALUES = {
     "costs": {"COST": 100, "NEAR": 12},
     "differ": {"EVEN": (1, 1, 1)},
     "drawing": {"WIDE": 600},
+    "grove": {"KINDS": ("plain", "handles", "lasting", "flat", "tied"), "TREES": 8, "VISITS": 200},
 }
 
 # How many arguments each method takes besides its own object.
@@ -60,6 +65,10 @@ METHODS = {
                           "do": 1, "do_all": 1, "story": 0, "make": 0, "__str__": 0},
     "counts.Counts": {"__init__": 1, "size_at": 1, "height_at": 1, "number_of": 1, "kth": 1, "common": 1, "tags": 0,
                       "of_tag": 1, "levels": 0, "leaves": 0, "paper": 0},
+    "grove.Grove": {"__init__": 0, "begin": 3, "drop": 1, "names": 0, "kind": 1, "told": 1, "do": 2, "do_all": 2, "back": 1,
+                    "keep": 2, "where": 2, "size_at": 2, "kth": 2, "find": 2, "difference": 2, "join": 5, "visit": 4, "log": 0,
+                    "__len__": 0, "__eq__": 1, "__str__": 0},
+    "desk.Desk": {"__init__": 1, "say": 1, "run": 2, "is_busy": 0, "log": 0},
 }
 
 HEARERS = ("keeping.Keeper", "walks.Walker", "standing.Standing", "counts.Counts")

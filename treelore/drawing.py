@@ -135,7 +135,7 @@ def read_drawing(thing):
     # The last row is one of tags: else there are no kids below its lines, or no rows at all.
     if len(thing) & 1 == 0:
         raise Torn(len(thing))
-    return reader.part_from(0, 0)
+    return reader.part_read(0, 0)
 
 
 def pieces_of(thing):
@@ -199,7 +199,7 @@ class RowReader:
         self.begun += len(self.due)
         return self.begun <= SIZE
 
-    def part_from(self, level, number):
+    def part_read(self, level, number):
         """The part at a level whose place is of that number there."""
         tag, first, many = self.tag_rows[level][number]
-        return (tag, tuple([self.part_from(level + 1, kid) for kid in range(first, first + many)]))
+        return (tag, tuple([self.part_read(level + 1, kid) for kid in range(first, first + many)]))

@@ -52,6 +52,10 @@ class Make:
         """From the next do or do_all on that hearer hears, too."""
         self.hearers.append(hearer)
 
+    def unhear(self, hearer):
+        """From the next do or do_all on that hearer hears no more."""
+        self.hearers = [other for other in self.hearers if other != hearer]
+
     def do(self, deed):
         """Do a deed."""
         self.check_free()
