@@ -273,6 +273,50 @@ class StandingTest(RefusalChecks, unittest.TestCase):
         self.assertEqual(standing.do(("name", (), "a")), ((0, ((),), ()),))
         self.assertEqual(seen, [((),), ()])
 
+    def test_asked_by_one_that_hears_ahead_of_it(self):
+        for kind in MAKES:
+            make, seen = kind(SMALL), []
+            kids = PATTERNS[2]
+
+            def use():
+                seen.append((standing.answers_of(0) == answers(make.value(), kids), len(standing.story())))
+                if len(seen) == 1:
+                    # The deed was done ahead of this question: so nothing came of it there.
+                    self.assertEqual(standing.ask(kids), 1)
+                if len(seen) == 2:
+                    standing.drop(0)
+                    standing.ask(kids)
+
+            notes = Notes([], on_heard=use)
+            make.hear(notes)
+            standing = Standing(make)
+            standing.ask(kids)
+            one = standing.do(("out", (0, 0)))
+            other = standing.do(("out", (1,)))
+            self.assertEqual([row[0] for row in one], [0])
+            # Question 0 stood as the deed was done, question 2 didn't.
+            self.assertEqual([row[0] for row in other], [0, 1])
+            self.assertEqual((seen, [told for deed, told in standing.story()]), ([(True, 1), (True, 2)], [one, other]))
+            self.assertEqual(standing.questions(), (1, 2))
+
+    def test_made_while_a_do_all_goes_on(self):
+        for kind in MAKES:
+            make, made = kind(SMALL), []
+
+            def use():
+                if not made:
+                    made.append(Standing(make))
+                    made[0].ask(PATTERNS[2])
+                self.assertEqual(made[0].answers_of(0), answers(make.value(), PATTERNS[2]))
+
+            make.hear(Notes([], on_heard=use))
+            make.do_all([("out", (0,)), ("name", (), "z"), ("out", (0,))])
+            self.assertEqual(made[0].story(), [])
+            tree = make.value()
+            changes, behind = changes_by(tree, ("out", (0, 1)), {0: PATTERNS[2]})
+            self.assertEqual(made[0].do(("out", (0, 1))), changes)
+            self.assertEqual(made[0].story(), [(("out", (0, 1)), changes)])
+
     def test_text(self):
         make, standing = self.stand(patterns=[PATTERNS[0], PATTERNS[4], pattern(("tag", "e"), mark="m"), PATTERNS[1]])
         self.assertEqual(str(standing), "0: 10 answers\n1: 0 answers\n2: 1 answers\n3: 6 answers")

@@ -67,7 +67,7 @@ class Keeper(Follower):
     def __len__(self):
         return len(self.spots)
 
-    def take_in(self, before, deed):
+    def lead_on(self, before, deed):
         """Lead the tickets through a deed; an own back lets those stand again that the undone deed took."""
         taken = self.lead(before, deed)
         if self.undoing:

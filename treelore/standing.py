@@ -1,10 +1,10 @@
 """Questions that stand over a make: their answers are kept through deeds, and told as they go and come."""
 
+from treelore.abreast import Follower
 from treelore.answers import answers
 from treelore.deeds import changed
 from treelore.errors import NoQuestion, TooMany
 from treelore.leading import places_led
-from treelore.makes import Hearer
 from treelore.patterns import check_pattern
 from treelore.trees import is_count
 
@@ -27,7 +27,7 @@ def went_and_came(where, ahead, behind):
     return (went, came)
 
 
-class Standing(Hearer):
+class Standing(Follower):
     """Questions over a make: asked has their patterns by their numbers, known the tree and answers last reckoned.
 
     rows has the last of the story; news what came of each deed while a do
@@ -35,19 +35,19 @@ class Standing(Hearer):
     """
 
     def __init__(self, make):
-        self.base = make
         self.asked = {}
         self.known = {}
         self.issued = 0
         self.rows = []
         self.news = None
-        make.hear(self)
+        self.follow(make)
 
     def ask(self, pattern):
         """The number of a new question."""
         check_pattern(pattern)
         if len(self.asked) == QUESTIONS:
             raise TooMany(QUESTIONS + 1)
+        self.catch_up()
         number = self.issued
         self.issued += 1
         tree = self.base.value()
@@ -63,6 +63,7 @@ class Standing(Hearer):
     def drop(self, number):
         """End a question."""
         self.check_question(number)
+        self.catch_up()
         del self.asked[number]
         del self.known[number]
 
@@ -90,7 +91,7 @@ class Standing(Hearer):
     def __len__(self):
         return len(self.asked)
 
-    def heard(self, before, deed):
+    def lead_on(self, before, deed):
         """Lead the answers through a deed, and write down what came of it."""
         behind = changed(before, deed)
         where = dict(places_led(before, deed))
@@ -132,6 +133,7 @@ class Standing(Hearer):
 
     def story(self):
         """The last deeds that were heard, each with what came of it."""
+        self.catch_up()
         return list(self.rows)
 
     def make(self):

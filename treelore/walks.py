@@ -135,7 +135,7 @@ class Walker(Follower):
         self.issued = 0
         self.follow(make)
 
-    def take_in(self, before, deed):
+    def lead_on(self, before, deed):
         """Lead what the walks have shown through a deed."""
         for number in list(self.walks):
             lead_walk(self.walks[number], before, deed)
