@@ -230,6 +230,7 @@ class TwoAndThreeTest(RefusalChecks, unittest.TestCase):
             self.refused(("NoTag",), grove.join, "b", thing, "q", "q", None)
             self.refused(("NoTag",), grove.join, "b", "b", thing, "q", None)
             self.refused(("NoTag",), grove.join, "b", "b", "o", thing, None)
+            self.refused(("NoTag",), grove.join, thing, "b", "b", "b", "plain")
         self.refused(("NoName", "q"), grove.join, "b", "q", None, None, None)
         self.refused(("NoName", "q"), grove.join, "b", "b", "q", None, None)
         self.refused(("NoName", "q"), grove.join, "b", "b", "o", "q", None)
@@ -359,7 +360,7 @@ class VisitTest(RefusalChecks, unittest.TestCase):
         for _ in range(50):
             grove.visit("t", "ahead", lambda path: None)
             self.refused(("NoName", "x"), grove.visit, "t", "ahead", lambda path: grove.drop("x"))
-        grove.do("t", ("name", (), "z"))
+            self.refused(("NoOrder", "x"), grove.visit, "t", "x", None)
         self.assertLess(len(grove.plots["t"].base.hearers), 5)
 
 

@@ -105,11 +105,12 @@ class PapersTest(RefusalChecks, unittest.TestCase):
                         (path, column, why[0], rank), (path, column, ("edges",) + why[1:], rank), (path, bool(column), why, rank),
                         (path, column, (None,) + why[1:], rank), (path, None, why, rank), (path + (0,), column, why, rank),
                         (path, column, ("edge", path), rank), (path, column, ("first",), rank), (path, column, ("above",), rank),
+                        (path, column, ("first", path + (60,)), rank), (path, column, ("under", path[:-1]), rank),
                         (path, column, very_many(), rank), (very_many(), column, why, rank), (path, column, (why[0], {}), rank)]
                 for row in rows:
                     self.assertIs(right_columns(tree, put(row)), False, row)
                 for word in ("edge", "beside", "first", "above"):
-                    for other in [None] + places:
+                    for other in [None] + places + [path + (0,), path[:-1] + (-1,), path + (len(part_of(tree, path)[1]),)]:
                         for level in (0, rank, rank + 1, 10 ** 59):
                             row = (path, column, (word,) if other is None else (word, other), level)
                             if (other is None) == (word == "edge"):

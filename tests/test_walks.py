@@ -450,6 +450,17 @@ class WalkerTest(RefusalChecks, unittest.TestCase):
             make.do(("out", (0,)))
         self.assertEqual(told, [((), None), 5, (("do", ("out", (0,))),), (0,), "ahead 2 of 7", 1])
 
+    def test_asked_by_one_that_hears_behind_it(self):
+        make, told = Make(SMALL), []
+        walker = Walker(make)
+        make.hear(Notes([], on_heard=lambda: told.append((str(walker), walker.shown(0), walker.left(0)))))
+        walker.begin("ahead", late=False)
+        for _ in range(4):
+            walker.onward(0)
+        make.do(("put", (), 0, leaf("n")))
+        make.do(("out", (0,)))
+        self.assertEqual(told, [("ahead 4 of 10", ((), (1,), (1, 0), (1, 1)), 6), ("ahead 4 of 10", ((), (0,), (0, 0), (0, 1)), 6)])
+
     def test_made_while_a_do_all_goes_on(self):
         made = [(leaf(), ("put", (), 0, ("y", (leaf("z"),))), [3, (), (0,), (0, 0), None]),
                 (("a", (leaf("b"), leaf("c"))), ("out", (1,)), [2, (), (0,), None, None])]

@@ -30,7 +30,7 @@ class Follower(Hearer):
 
     def is_behind(self):
         """Whether a deed was done of which this one is still to hear; what goes on as it comes it doesn't hear."""
-        return self.base.busy and self.base.rounds != self.came and self.met != self.base.acted
+        return self.base.rounds != self.came and self.met != self.base.acted
 
     def catch_up(self):
         """Take in the deed that is told to others still."""

@@ -29,8 +29,8 @@ def wrap_for(tree, place, kept):
 
 
 def stands_next(path, place, kept):
-    """Whether a path is beneath a place, with no kept one between."""
-    if path == place or not is_within(path, place):
+    """Whether a kept path is beneath a place that is not kept, with no kept one between."""
+    if not is_within(path, place):
         return False
     return not any([path[:length] in kept for length in range(len(place) + 1, len(path))])
 

@@ -117,23 +117,17 @@ class Grove:
 
     def do(self, name, deed):
         """Do a deed on a tree."""
-        plot = self.plot_of(name)
-        plot.sweep()
-        plot.base.do(deed)
+        self.plot_of(name).base.do(deed)
         self.entries.append(("do", name, deed))
 
     def do_all(self, name, deeds):
         """Do a list of deeds on a tree, all or none."""
-        plot = self.plot_of(name)
-        plot.sweep()
-        plot.base.do_all(deeds)
+        self.plot_of(name).base.do_all(deeds)
         self.entries.append(("all", name, tuple(deeds)))
 
     def back(self, name):
         """Undo the last deed on a tree that stands."""
-        plot = self.plot_of(name)
-        plot.sweep()
-        plot.keeper.back()
+        self.plot_of(name).keeper.back()
         self.entries.append(("back", name))
 
     def keep(self, name, path):

@@ -4,7 +4,6 @@ from treelore.deeds import check_bounds
 from treelore.errors import Clashing
 from treelore.matching import top_matching
 from treelore.sides import Edits, check_side, key_of, many_ahead, path_behind, side_of, takes_with, tree_behind
-from treelore.trees import check_tree
 
 
 def clash(tree, one, other):
@@ -87,8 +86,6 @@ def carried(tree, one, other):
 
 def three_ways(tree, ours, theirs):
     """The base led by what ours and theirs did to it."""
-    for thing in (tree, ours, theirs):
-        check_tree(thing)
     our_side = side_of(tree, ours, top_matching(tree, ours))
     their_side = side_of(tree, theirs, top_matching(tree, theirs))
     return check_together(tree, our_side, their_side)

@@ -16,9 +16,7 @@ class Reasons:
     def pusher(self, path):
         """The place beside it whose tag ends right ahead of a place, None where there is none."""
         left = self.lefts[path]
-        if left is None or room_left(self.tree, left, self.columns) != self.columns[path]:
-            return None
-        return left
+        return left if room_left(self.tree, left, self.columns) == self.columns[path] else None
 
     def other_by(self, word, path):
         """The place that a why of this word names for a place, None where it can't be said of that."""
@@ -60,7 +58,7 @@ def is_reason(reasons, path, why, ranks):
     """Whether a place stands in its column for that why."""
     if len(why) == 1:
         return why[0] == "edge" and reasons.columns[path] == 0
-    if len(why) != 2 or why[0] not in ("beside", "first", "above"):
+    if len(why) != 2:
         return False
     other = reasons.other_by(why[0], path)
     return other is not None and is_same(why[1], other) and ranks[path] > ranks[other]

@@ -80,7 +80,6 @@ def check_side(tree, thing):
 
 def is_side(tree, thing):
     """Whether a thing is a side of a base."""
-    check_tree(tree)
     try:
         check_side(tree, thing)
     except NoSide:

@@ -11,7 +11,7 @@ FIGURES = 60
 
 def number_of_text(text):
     """The number that has this text, in figures without noughts ahead."""
-    if not isinstance(text, str) or not 1 <= len(text) <= FIGURES:
+    if not 1 <= len(text) <= FIGURES:
         raise NoCount("text")
     if not all(["0" <= sign <= "9" for sign in text]) or (text[0] == "0" and text != "0"):
         raise NoCount("text")
