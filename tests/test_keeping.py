@@ -184,6 +184,77 @@ class TicketsTest(RefusalChecks, unittest.TestCase):
             make.do(("unwrap", (0,)))
         self.assertEqual(told, [("Taken", 1, 0), ((1, 0),), ((1, None), (2, (0,))), 1, 1])
 
+    def test_one_that_came_more_than_once(self):
+        for kind in MAKES:
+            for seed, tree in enumerate(SAMPLES):
+                for more in (1, 2):
+                    make = kind(tree)
+                    keeper, plain, rows = Keeper(make), Keeper(make), []
+                    for _ in range(more):
+                        make.hear(keeper)
+                    keeper.watch(lambda number, tickets: rows.append((number, tickets)))
+                    self.assertEqual(keep_all(keeper, tree), keep_all(plain, tree))
+                    deeds = deed_row(tree, 6, seed + 240)
+                    make.do_all(deeds[:3])
+                    for deed in deeds[3:]:
+                        make.do(deed)
+                    # It is led through each deed once, as one that came once is; a deed's number is that of its first hearing.
+                    self.assertEqual(keeper.tickets(), plain.tickets())
+                    takes = tuple((ticket, deed * (more + 1)) for ticket, deed in plain.takes())
+                    self.assertEqual(keeper.takes(), takes)
+                    self.assertEqual((keeper.deeds_heard(), keeper.can_back()), (6 * (more + 1), 6))
+                    numbers = sorted({deed for _, deed in takes})
+                    called = [(number, tuple(ticket for ticket, deed in takes if deed == number)) for number in numbers]
+                    self.assertEqual(rows, called)
+
+    def test_back_of_one_that_came_twice(self):
+        for kind in MAKES:
+            for seed, tree in enumerate(SAMPLES):
+                make = kind(tree)
+                keeper, rows = Keeper(make), []
+                make.hear(keeper)
+                keep_all(keeper, tree)
+                deeds = deed_row(tree, 6, seed + 250)
+                for deed in deeds:
+                    rows.append((make.value(), keeper.tickets(), keeper.takes()))
+                    make.do(deed)
+                for number, row in enumerate(reversed(rows)):
+                    self.assertEqual((keeper.can_back(), keeper.deeds_heard()), (6 - number, 12 + 2 * number))
+                    keeper.back()
+                    self.assertEqual((make.value(), keeper.tickets(), keeper.takes()), row)
+                self.assertEqual(keeper.deeds_heard(), 24)
+                self.refused(("NothingBack",), keeper.back)
+
+    def test_one_that_came_twice_asked_between(self):
+        for kind in MAKES:
+            make, told = kind(SMALL), []
+
+            def ask():
+                told.append((keeper.where(0), keeper.deeds_heard()))
+
+            make.hear(Notes([], on_heard=ask))
+            keeper = Keeper(make)
+            make.hear(Notes([], on_heard=ask))
+            make.hear(keeper)
+            make.hear(Notes([], on_heard=ask))
+            keeper.keep((0,))
+            make.do(("put", (), 0, leaf("x")))
+            make.do_all([("put", (), 0, leaf("y")), ("name", (), "z")])
+            # The one that hears ahead of it asks when the deed is done: so it has taken that in for its first hearing.
+            self.assertEqual(told, [((1,), 1), ((1,), 1), ((1,), 2), ((2,), 3), ((2,), 3), ((2,), 4),
+                                    ((2,), 5), ((2,), 5), ((2,), 6)])
+
+    def test_one_that_comes_again_meanwhile(self):
+        make = Make(SMALL)
+        keeper = Keeper(make)
+        notes = Notes([], on_heard=lambda: make.hear(keeper))
+        make.hear(notes)
+        make.do_all([("name", (), "x"), ("name", (), "y")])
+        self.assertEqual(keeper.deeds_heard(), 2)
+        notes.on_heard = None
+        make.do(("name", (), "z"))
+        self.assertEqual(keeper.deeds_heard(), 5)
+
     def test_let_go_by_one_that_hears_ahead_of_it(self):
         make = Make(SMALL)
         notes = Notes([], on_heard=lambda: keeper.let_go(0))

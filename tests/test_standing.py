@@ -299,6 +299,50 @@ class StandingTest(RefusalChecks, unittest.TestCase):
             self.assertEqual((seen, [told for deed, told in standing.story()]), ([(True, 1), (True, 2)], [one, other]))
             self.assertEqual(standing.questions(), (1, 2))
 
+    def test_one_that_came_more_than_once(self):
+        for kind in MAKES:
+            for seed, tree in enumerate(SAMPLES):
+                for more in (1, 2):
+                    make, standing = self.stand(kind, tree)
+                    for _ in range(more):
+                        make.hear(standing)
+                    deeds, rows = deed_row(tree, 6, seed + 190), []
+                    for deed in deeds:
+                        told, tree_behind = changes_by(tree, deed, dict(enumerate(PATTERNS)))
+                        rows.append(told)
+                        tree = tree_behind
+                    # do and do_all tell one for each deed, however often it is heard.
+                    self.assertEqual(standing.do(deeds[0]), rows[0])
+                    self.assertEqual(standing.do_all(deeds[1:4]), tuple(rows[1:4]))
+                    make.do_all(deeds[4:])
+                    story = []
+                    for row in zip(deeds, rows):
+                        story.extend([row] * (more + 1))
+                    self.assertEqual(standing.story(), story[-20:])
+                    self.check_answers(standing, tree, dict(enumerate(PATTERNS)))
+
+    def test_one_that_came_twice_has_the_last_of_what_it_heard(self):
+        make, standing = self.stand(patterns=[])
+        make.hear(standing)
+        deeds = [("name", (), letter) for letter in "abcdefghijkl"]
+        standing.do_all(deeds)
+        self.assertEqual(standing.story(), [(deed, ()) for deed in deeds[2:] for _ in range(2)])
+
+    def test_one_that_came_twice_asked_ahead_of_its_hearing(self):
+        for kind in MAKES:
+            make, seen = kind(SMALL), []
+            make.hear(Notes([], on_heard=lambda: seen.append(len(standing.story()))))
+            standing = Standing(make)
+            make.hear(Notes([], on_heard=lambda: seen.append(len(standing.story()))))
+            make.hear(standing)
+            standing.ask(PATTERNS[1])
+            deeds, rows = [("out", (0,)), ("out", (1,))], []
+            rows.append(standing.do(deeds[0]))
+            rows.append(standing.do(deeds[1]))
+            self.assertEqual([len(row) for row in rows], [1, 1])
+            self.assertEqual(seen, [1, 1, 3, 3])
+            self.assertEqual(standing.story(), [row for row in zip(deeds, rows) for _ in range(2)])
+
     def test_made_while_a_do_all_goes_on(self):
         for kind in MAKES:
             make, made = kind(SMALL), []

@@ -428,6 +428,58 @@ class WalkerTest(RefusalChecks, unittest.TestCase):
                     there = [path for path in walker.shown(number) if path is not None]
                     self.assertEqual(len(there), len(set(there)))
 
+    def test_one_that_came_more_than_once(self):
+        for kind in MAKES:
+            for seed, tree in enumerate(SAMPLES):
+                for more in (1, 2):
+                    make = kind(tree)
+                    walker, plain = Walker(make), Walker(make)
+                    for _ in range(more):
+                        make.hear(walker)
+                    walks = [(how, late) for how in ORDERS for late in (True, False)]
+                    for how, late in walks:
+                        self.assertEqual(walker.begin(how, late=late), plain.begin(how, late=late))
+                    deeds = deed_row(tree, 8, seed + 230)
+                    for turn in range(0, 8, 2):
+                        for number in range(8):
+                            self.assertEqual(walker.onward(number), plain.onward(number))
+                        make.do_all(deeds[turn:turn + 2])
+                        for number in range(8):
+                            self.assertEqual(walker.shown(number), plain.shown(number))
+                            self.assertEqual(walker.left(number), plain.left(number))
+                        self.assertEqual(str(walker), str(plain))
+                    for number in range(8):
+                        story = []
+                        for step in plain.story(number):
+                            story.extend([step] * (more + 1 if step[0] == "do" else 1))
+                        self.assertEqual(walker.story(number), tuple(story))
+
+    def test_one_that_came_twice_asked_ahead_of_its_hearing(self):
+        for kind in MAKES:
+            make, told = kind(SMALL), []
+            make.hear(Notes([], on_heard=lambda: told.append((walker.onward(0), len(walker.story(0))))))
+            walker = Walker(make)
+            make.hear(walker)
+            walker.begin("ahead")
+            put, out = ("put", (), 0, leaf("x")), ("out", (0,))
+            make.do(put)
+            make.do_all([out, put])
+            self.assertEqual(told, [((), 2), ((0,), 5), ((0,), 8)])
+            steps = [("do", put), ("show", ()), ("do", put), ("do", out), ("show", (0,)), ("do", out), ("do", put),
+                     ("show", (0,)), ("do", put)]
+            self.assertEqual(walker.story(0), tuple(steps))
+            self.assertEqual(walker.shown(0), ((), (1,), (0,)))
+
+    def test_begun_between_two_hearings_of_a_deed(self):
+        make = Make(SMALL)
+        walker = Walker(make)
+        make.hear(Notes([], on_heard=lambda: walker.begin("ahead")))
+        make.hear(walker)
+        make.do(("name", (), "z"))
+        make.do(("name", (), "y"))
+        one, two = ("do", ("name", (), "z")), ("do", ("name", (), "y"))
+        self.assertEqual([walker.story(number) for number in range(2)], [(one, two, two), (two,)])
+
     def test_begun_by_one_that_hears_ahead_of_it(self):
         make = Make(SMALL)
         make.hear(Notes([], on_heard=lambda: walker.begin("ahead")))

@@ -77,6 +77,9 @@ class Keeper(Follower):
             self.standing.append((deed_back(before, deed), taken))
         if len(taken) > 0:
             self.due.append((self.turns, tuple(sorted(list(taken)))))
+
+    def write_down(self, deed):
+        """Count a deed that was heard, once more each time that it is heard."""
         self.turns += 1
 
     def lead(self, before, deed):

@@ -30,8 +30,8 @@ def went_and_came(where, ahead, behind):
 class Standing(Follower):
     """Questions over a make: asked has their patterns by their numbers, known the tree and answers last reckoned.
 
-    rows has the last of the story; news what came of each deed while a do
-    or do_all of its own goes on, else None.
+    rows has the last of the story; outcome what came of the last deed, news
+    what came of each while a do or do_all of its own goes on, else None.
     """
 
     def __init__(self, make):
@@ -39,6 +39,7 @@ class Standing(Follower):
         self.known = {}
         self.issued = 0
         self.rows = []
+        self.outcome = ()
         self.news = None
         self.follow(make)
 
@@ -92,7 +93,7 @@ class Standing(Follower):
         return len(self.asked)
 
     def lead_on(self, before, deed):
-        """Lead the answers through a deed, and write down what came of it."""
+        """Lead the answers through a deed, and reckon what came of it."""
         behind = changed(before, deed)
         where = dict(places_led(before, deed))
         changes = []
@@ -102,10 +103,13 @@ class Standing(Follower):
             went, came = went_and_came(where, ahead, self.known[number][1])
             if len(went) > 0 or len(came) > 0:
                 changes.append((number, went, came))
-        outcome = tuple(changes)
-        self.rows = (self.rows + [(deed, outcome)])[-STORY:]
+        self.outcome = tuple(changes)
         if self.news is not None:
-            self.news.append(outcome)
+            self.news.append(self.outcome)
+
+    def write_down(self, deed):
+        """Write a deed that was heard, and what came of it, into the story."""
+        self.rows = (self.rows + [(deed, self.outcome)])[-STORY:]
 
     def settle(self):
         """Nothing is left to do: all answers were led as the deeds came."""

@@ -86,12 +86,6 @@ def seen_behind(seen, before, deed):
     return [None if path is None else place_behind(before, deed, path) for path in seen]
 
 
-def lead_walk(walk, before, deed):
-    """Lead what a walk has shown through a deed."""
-    walk.seen = seen_behind(walk.seen, before, deed)
-    walk.tale.append(("do", deed))
-
-
 def right_walk(tree, how, story, *, late=True):
     """Whether a thing is a right story of a walk that began at a tree."""
     check_tree(tree)
@@ -104,7 +98,7 @@ def right_walk(tree, how, story, *, late=True):
         if not isinstance(step, tuple) or len(step) != 2:
             return False
         if step[0] == "do" and is_fitting(now, step[1]):
-            lead_walk(walk, now, step[1])
+            walk.seen = seen_behind(walk.seen, now, step[1])
             now = changed(now, step[1])
         elif step[0] != "show" or not is_same_path(step[1], show_next(walk, now)):
             return False
@@ -138,7 +132,13 @@ class Walker(Follower):
     def lead_on(self, before, deed):
         """Lead what the walks have shown through a deed."""
         for number in list(self.walks):
-            lead_walk(self.walks[number], before, deed)
+            walk = self.walks[number]
+            walk.seen = seen_behind(walk.seen, before, deed)
+
+    def write_down(self, deed):
+        """Write a deed that was heard into the stories of the walks."""
+        for number in list(self.walks):
+            self.walks[number].tale.append(("do", deed))
 
     def settle(self):
         """Nothing is left to do: all walks were led as the deeds came."""
